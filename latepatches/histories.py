@@ -4,36 +4,29 @@ A start of patch k is written k, a stop of it -k.
 """
 
 from latepatches.errors import InvalidHistoryError, InvalidPatchError
+from latepatches.integers import are_integers, is_integer
 
 LAST_PATCH = 100
 MOST_EVENTS = 200
 
 
-def is_integer(value):
-    """Tell whether any value is an integer."""
-    # A bool is an int for Python, but not here.
-    return isinstance(value, int) and not isinstance(value, bool)
-
-
-def are_integers(value, least, greatest, most):
-    """Tell whether any value is a list of at most so many integers from least to greatest."""
-    # Exactly a list is asked for, so that no tuple and no list with a behavior of its own gets through.
-    if type(value) != list or len(value) > most:
+def are_events(value):
+    """Tell whether any value is a list of different events."""
+    if not are_integers(value, -LAST_PATCH, LAST_PATCH, MOST_EVENTS):
         return False
-    return all([is_integer(item) and least <= item <= greatest for item in value])
+    return 0 not in value and len(set(value)) == len(value)
 
 
 def is_history(value):
     """Tell whether any value is a history."""
-    if not are_integers(value, -LAST_PATCH, LAST_PATCH, MOST_EVENTS):
+    if not are_events(value):
         return False
-    seen = set()
+    started = set()
     for event in value:
-        if event == 0 or event in seen:
+        if event > 0:
+            started.add(event)
+        elif -event not in started:
             return False
-        if event < 0 and -event not in seen:
-            return False
-        seen.add(event)
     return True
 
 

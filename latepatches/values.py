@@ -4,7 +4,8 @@ The value 0 is the original one, the value k that of patch k.
 """
 
 from latepatches.errors import InvalidPatchError, InvalidPresentsError, InvalidValueError
-from latepatches.histories import LAST_PATCH, MOST_EVENTS, are_integers, check_history, is_integer, is_started
+from latepatches.histories import LAST_PATCH, MOST_EVENTS, check_history, is_started
+from latepatches.integers import are_integers, is_integer
 
 
 def replay(history):

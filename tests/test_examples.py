@@ -15,6 +15,38 @@
 [[0, 1, 2, 0, 3, 1, 0], 1, [3, 1], [2], 1, 2]
 >>> [fate_of(H, 0), fate_of(H[:4], 1), fate_of(H, 2), history_of([1, 2, 0, 3, 1, 0]) == H, history_of([1, 0, 2, 1])]
 [('present',), ('saved', 2), ('lost', 2), True, None]
+
+>>> from latepatches.shapes import count_in_shape, count_survivors, nth_in_shape, shape_of, shape_rank
+>>> H = [1, 2, -1, 3, -2, -3]
+>>> [shape_of(H), count_in_shape("++-+--"), [count_survivors("++-+--", value) for value in range(4)]]
+['++-+--', 4, [2, 2, 0, 0]]
+>>> [nth_in_shape("++-+--", 0), shape_rank(H), count_in_shape("")]
+[[1, 2, -2, 3, -3, -1], 3, 1]
+
+>>> from latepatches.counts import count_histories, count_original, count_survivor, count_with_jump, history_rank, nth_history
+>>> from latepatches.counts import nth_original, original_rank
+>>> [count_histories(3), [count_original(number) for number in range(6)], [count_with_jump(3, arcs) for arcs in range(5)]]
+[15, [1, 1, 2, 7, 37, 266], [0, 3, 3, 1, 0]]
+>>> [[count_survivor(3, value) for value in range(4)], nth_history(2, 2), history_rank([1, -1, 2, -2])]
+[[7, 5, 3, 0], [1, 2, -1, -2], 0]
+>>> [nth_original(2, 1), original_rank([1, 2, -2, -1])]
+[[1, 2, -2, -1], 1]
+
+>>> from latepatches.orders import count_leaving, count_orders, leaving_rank, left_by, nth_leaving
+>>> history = [1, -1, 2, 3]
+>>> [count_orders(history), left_by(history, [3, 2]), left_by(history, [2, 3])]
+[2, 0, 2]
+>>> [[count_leaving(history, value) for value in [0, 1, 2, 3]], nth_leaving(history, 0, 0), leaving_rank(history, [2, 3])]
+[[1, 0, 1, 0], [3, 2], 0]
+
+>>> from latepatches.effects import Effect, state_after
+>>> effect = Effect([2, -1])
+>>> [effect.present, effect.saved, effect.stopped, effect.ended, len(effect), 1 in effect, 3 in effect]
+[-1, [(2, 0)], [1], [], 2, True, False]
+>>> [state_after([1, 2]), effect((1, [(1, 0)])), Effect([1, 2, -1, -2]).present]
+[(2, [(1, 0), (2, 1)]), (0, [(2, 1)]), 1]
+>>> [Effect([1, 2]) + Effect([-1, -2]) == Effect([1, 2, -1, -2]), Effect([1, -1]) == Effect([1, 2, -2, -1])]
+[True, False]
 """
 
 import doctest

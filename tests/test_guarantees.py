@@ -1,8 +1,11 @@
 """What the document says of all histories: of values, of jumps and of careful patches."""
 
+import math
 import unittest
 
+from latepatches.counts import count_histories, count_original, nth_history
 from latepatches.histories import arcs_of, is_nested, running_after, without
+from latepatches.orders import count_leaving, count_orders, left_by, nth_leaving
 from latepatches.values import (
     careful_after, fate_of, history_of, jump_of, present_after, saved_by, walk_presents,
 )
@@ -72,6 +75,13 @@ class JumpsTest(PackageTest):
             for patch in others[:5]:
                 self.assertEqual(present_after(without(history, [patch])), present_after(history))
 
+    def test_the_histories_by_their_indexes(self):
+        for patches, original, careful in [(1, 1, 1), (2, 2, 2), (3, 7, 5), (4, 37, 14), (5, 266, 42)]:
+            histories = [nth_history(patches, index) for index in range(count_histories(patches))]
+            self.assertEqual([present_after(history) for history in histories].count(0), original)
+            self.assertEqual(count_original(patches), original)
+            self.assertEqual([careful_after(history) for history in histories].count(0), careful)
+
     def test_histories_that_leave_the_original_value(self):
         for patches, expected in [(0, 1), (1, 1), (2, 2), (3, 7), (4, 37), (5, 266)]:
             left = [present_after(history) for history in complete_plain(patches)]
@@ -90,6 +100,30 @@ class CarefulPatchesTest(PackageTest):
         for history in SAMPLE_HISTORIES:
             if not running_after(history):
                 self.assertEqual(careful_after(history) == 0, is_nested(history), history)
+
+
+class OrdersTest(PackageTest):
+    def test_each_saved_value_is_left_by_as_many_orders(self):
+        for history in SAMPLE_HISTORIES:
+            running = running_after(history)
+            self.assertEqual(count_orders(history), math.factorial(len(running)))
+            for patch in running:
+                self.assertEqual(count_leaving(history, saved_by(history, patch)), math.factorial(len(running) - 1))
+
+    def test_they_leave_it_if_the_patch_that_saved_it_is_stopped_last(self):
+        for history in SAMPLE_HISTORIES:
+            for patch in running_after(history)[:3]:
+                order = nth_leaving(history, saved_by(history, patch), 0)
+                self.assertEqual(order[-1], patch)
+                self.assertEqual(left_by(history, order), saved_by(history, patch))
+
+    def test_none_leaves_the_original_value_if_it_is_present_while_a_patch_runs(self):
+        found = 0
+        for history in SAMPLE_HISTORIES:
+            if present_after(history) == 0 and running_after(history) != []:
+                self.assertEqual(count_leaving(history, 0), 0)
+                found += 1
+        self.assertGreater(found, 0)
 
 
 if __name__ == "__main__":

@@ -4,8 +4,10 @@ import copy
 import inspect
 import unittest
 
-from latepatches import histories, values
+from latepatches import counts, effects, histories, orders, shapes, values
 from tests.helpers import FALLING_200, G, H, PackageTest
+
+RUN = [9, 100, 3, 4, -4]
 
 # Each function with its parameters and with arguments for them.
 FUNCTIONS = [
@@ -26,19 +28,59 @@ FUNCTIONS = [
     (values.jump_of, {"history": FALLING_200}),
     (values.careful_after, {"history": H}),
     (values.history_of, {"presents": [1, 2, 0, 3, 1, 0]}),
+    (shapes.is_shape, {"value": "++-"}),
+    (shapes.shape_of, {"history": FALLING_200}),
+    (shapes.count_in_shape, {"shape": "++-+--"}),
+    (shapes.count_survivors, {"shape": "++-+--", "survivor": 1}),
+    (shapes.nth_in_shape, {"shape": "++-+--", "index": 2}),
+    (shapes.shape_rank, {"history": H}),
+    (counts.count_histories, {"patches": 4}),
+    (counts.nth_history, {"patches": 3, "index": 2}),
+    (counts.history_rank, {"history": H}),
+    (counts.count_original, {"patches": 4}),
+    (counts.nth_original, {"patches": 3, "index": 2}),
+    (counts.original_rank, {"history": H}),
+    (counts.count_with_jump, {"patches": 4, "arcs": 2}),
+    (counts.count_survivor, {"patches": 4, "survivor": 2}),
+    (orders.is_order, {"history": RUN, "value": [9, 3, 100]}),
+    (orders.count_orders, {"history": RUN}),
+    (orders.left_by, {"history": RUN, "order": [9, 3, 100]}),
+    (orders.count_leaving, {"history": RUN, "value": 9}),
+    (orders.nth_leaving, {"history": RUN, "value": 9, "index": 1}),
+    (orders.nth_leaving, {"history": G, "value": 1, "index": 0}),
+    (orders.leaving_rank, {"history": RUN, "order": [9, 3, 100]}),
+    (effects.is_piece, {"value": [2, -1]}),
+    (effects.is_state, {"value": (1, [(1, 0)])}),
+    (effects.state_after, {"history": RUN}),
+    (effects.Effect([2, -1]), {"state": (1, [(1, 0)])}),
+    (effects.Effect([]), {"state": (1, [(1, 0)])}),
 ]
 
 NAMES = {
     histories: ["is_history", "is_complete", "is_plain", "is_nested", "running_after", "arcs_of", "renumbered",
                 "without"],
     values: ["present_after", "walk_presents", "saved_by", "fate_of", "jump_of", "careful_after", "history_of"],
+    shapes: ["is_shape", "shape_of", "count_in_shape", "count_survivors", "nth_in_shape", "shape_rank"],
+    counts: ["count_histories", "nth_history", "history_rank", "count_original", "nth_original", "original_rank",
+             "count_with_jump", "count_survivor"],
+    orders: ["is_order", "count_orders", "left_by", "count_leaving", "nth_leaving", "leaving_rank"],
+    effects: ["is_piece", "is_state", "state_after"],
 }
 
 KINDS = {
     "is_history": bool, "is_complete": bool, "is_plain": bool, "is_nested": bool, "running_after": list,
     "arcs_of": list, "renumbered": list, "without": list, "present_after": int, "saved_by": int, "fate_of": tuple,
-    "walk_presents": list, "jump_of": list, "careful_after": int, "history_of": list,
+    "walk_presents": list, "jump_of": list, "careful_after": int, "history_of": list, "is_shape": bool, "shape_of": str,
+    "count_in_shape": int, "count_survivors": int, "nth_in_shape": list, "shape_rank": int, "count_histories": int,
+    "nth_history": list, "history_rank": int, "count_original": int, "nth_original": list, "original_rank": int,
+    "count_with_jump": int, "count_survivor": int, "is_order": bool, "count_orders": int, "left_by": int,
+    "count_leaving": int, "nth_leaving": list, "leaving_rank": int, "is_piece": bool, "is_state": bool,
+    "state_after": tuple, "an effect": tuple,
 }
+
+
+def name_of(function):
+    return getattr(function, "__name__", "an effect")
 
 
 def answer_of(function, *told, **named):
@@ -47,54 +89,80 @@ def answer_of(function, *told, **named):
     return list(answer) if function is values.walk_presents else answer
 
 
+def lists_in(value):
+    """Return a value and its items, as far as they are lists."""
+    parts = [value] + (list(value) if isinstance(value, (list, tuple)) else [])
+    return [part for part in parts if isinstance(part, list)]
+
+
 class InterfaceTest(PackageTest):
     def test_each_function_is_defined_in_its_file(self):
         for module, names in NAMES.items():
             for name in names:
                 self.assertTrue(inspect.isfunction(getattr(module, name)), name)
                 self.assertEqual(getattr(module, name).__module__, module.__name__)
-        tested = {function.__name__ for function, _ in FUNCTIONS}
+        tested = {function.__name__ for function, _ in FUNCTIONS if inspect.isfunction(function)}
         self.assertEqual(tested, {name for names in NAMES.values() for name in names})
 
     def test_names_of_the_parameters(self):
         for function, named in FUNCTIONS:
-            self.assertEqual(list(inspect.signature(function).parameters), list(named), function.__name__)
+            self.assertEqual(list(inspect.signature(function).parameters), list(named), name_of(function))
 
     def test_by_position_and_by_name(self):
         for function, named in FUNCTIONS:
             by_position = answer_of(function, *named.values())
-            self.assert_same(answer_of(function, **named), by_position, function.__name__)
+            self.assert_same(answer_of(function, **named), by_position, name_of(function))
             backwards = {name: named[name] for name in reversed(named)}
-            self.assert_same(answer_of(function, **backwards), by_position, function.__name__)
+            self.assert_same(answer_of(function, **backwards), by_position, name_of(function))
 
     def test_kinds_of_values(self):
         for function, named in FUNCTIONS:
-            self.assertIs(type(answer_of(function, **named)), KINDS[function.__name__], function.__name__)
+            self.assertIs(type(answer_of(function, **named)), KINDS[name_of(function)], name_of(function))
 
     def test_no_argument_is_changed(self):
         for function, named in FUNCTIONS:
             before = copy.deepcopy(named)
             answer_of(function, **named)
-            self.assertEqual(named, before, function.__name__)
+            self.assertEqual(named, before, name_of(function))
 
     def test_no_argument_is_changed_by_a_call_that_raises(self):
-        gone, presents = [1, 1], [1, 101]
-        with self.assertRaises(ValueError):
-            histories.without(H, gone)
-        with self.assertRaises(ValueError):
-            values.history_of(presents)
-        self.assertEqual([gone, presents, H], [[1, 1], [1, 101], [1, 2, -1, 3, -2, -3]])
+        gone, presents, order, piece, state = [1, 1], [1, 101], [3, 3], [-3, 3], (0, [(2, 1), (1, 2)])
+        calls = [(histories.without, H, gone), (values.history_of, presents), (orders.left_by, RUN, order),
+                 (orders.leaving_rank, RUN, order), (effects.Effect, piece), (effects.Effect([-2]), state)]
+        before = copy.deepcopy([told for _, *told in calls])
+        for call, *told in calls:
+            with self.assertRaises(ValueError):
+                call(*told)
+        self.assertEqual([told for _, *told in calls], before)
 
     def test_lists_are_new(self):
         for function, named in FUNCTIONS:
             first, second = answer_of(function, **named), answer_of(function, **named)
             self.assert_same(first, second)
-            if isinstance(first, list):
-                self.assertIsNot(first, second)
-                for argument in named.values():
-                    self.assertIsNot(first, argument)
-                first.append("more")
-                self.assert_same(answer_of(function, **named), second, function.__name__)
+            for one, two in zip(lists_in(first), lists_in(second), strict=True):
+                self.assertIsNot(one, two)
+                for argument in [part for value in named.values() for part in lists_in(value)]:
+                    self.assertIsNot(one, argument)
+                one.append("more")
+            self.assert_same(answer_of(function, **named), second, name_of(function))
+
+    def test_the_class_effect(self):
+        self.assertTrue(inspect.isclass(effects.Effect))
+        self.assertEqual(effects.Effect.__module__, "latepatches.effects")
+        self.assertEqual(list(inspect.signature(effects.Effect).parameters), ["piece"])
+        self.assertEqual(effects.Effect(piece=[2, -1]), effects.Effect([2, -1]))
+        for name in ["present", "saved", "stopped", "ended"]:
+            self.assertIsInstance(vars(effects.Effect)[name], property, name)
+        for name in ["__add__", "__eq__", "__contains__", "__len__", "__call__"]:
+            self.assertTrue(inspect.isfunction(vars(effects.Effect)[name]), name)
+
+    def test_kinds_of_the_properties_and_operators_of_an_effect(self):
+        effect = effects.Effect([2, -1, 3, -3])
+        kinds = [type(told) for told in [effect.present, effect.saved, effect.stopped, effect.ended]]
+        self.assertEqual(kinds, [int, list, list, list])
+        self.assertEqual([type(pair) for pair in effect.saved], [tuple])
+        self.assertEqual([type(len(effect)), type(1 in effect), type(effect == effect)], [int, bool, bool])
+        self.assertIs(type(effect + effects.Effect([4])), effects.Effect)
 
 
 if __name__ == "__main__":

@@ -2,6 +2,9 @@
 
 from latepatches.errors import InvalidNumberError
 
+# Settings and options have integers from the negative of this one up to it.
+FARTHEST = 10 ** 30
+
 
 def is_integer(value):
     """Tell whether any value is an integer."""
@@ -31,3 +34,8 @@ def check_number(value, least, greatest):
 def check_index(index, count):
     """Raise an error unless any value is an index of one of so many things."""
     check_number(index, 0, count - 1)
+
+
+def check_settable(value):
+    """Raise an error unless any value is an integer that settings and options can have."""
+    check_number(value, -FARTHEST, FARTHEST)

@@ -14,7 +14,7 @@ def is_order(history, value):
     return are_integers(value, 1, LAST_PATCH, LAST_PATCH) and sorted(value) == running
 
 
-def _check_order(history, order):
+def check_order(history, order):
     """Raise an error unless any value is an order of a history."""
     if not is_order(history, order):
         raise InvalidOrderError("this is not an order of the patches that run")
@@ -27,7 +27,7 @@ def count_orders(history):
 
 def left_by(history, order):
     """Return the value that is present behind the stops of an order."""
-    _check_order(history, order)
+    check_order(history, order)
     return present_after(history + [-patch for patch in order])
 
 
@@ -53,7 +53,7 @@ def nth_leaving(history, value, index):
 
 def leaving_rank(history, order):
     """Return the index of an order among those that leave the same value."""
-    _check_order(history, order)
+    check_order(history, order)
     # All of them have the same patch at the end, the one that saved the value.
     return _permutation_rank(order[:-1])
 

@@ -114,6 +114,9 @@ NO_INTEGERS = [None, True, False, 1.0, 0.0, "", "1", b"1", (), (1,), [], [1], [[
 # Wrong as a number, an index or a patch wherever at most 0 to 100 or a count of less than 200 digits is asked for.
 WRONG_NUMBERS = NO_INTEGERS + [-1, -2, -100, 10 ** 399, -10 ** 30]
 
+# Wrong as the integer of a setting, a patch, an option or a hold.
+WRONG_INTEGERS = NO_INTEGERS + [10 ** 30 + 1, -10 ** 30 - 1, 10 ** 399, -10 ** 399]
+
 WRONG_HISTORIES = [
     None, True, False, 0, 1, -1, 1.0, "", "1", "+1 -1", b"", b"\x01", object(), range(1, 3), iter([1]),
     (), (1,), (1, -1), {}, {1: 2}, set(), {1, 2}, frozenset(),

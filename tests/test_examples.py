@@ -47,6 +47,34 @@
 [(2, [(1, 0), (2, 1)]), (0, [(2, 1)]), 1]
 >>> [Effect([1, 2]) + Effect([-1, -2]) == Effect([1, 2, -1, -2]), Effect([1, -1]) == Effect([1, 2, -2, -1])]
 [True, False]
+
+>>> from latepatches.several import is_obstacle, is_restoring, obstacle, presents_by, restoring_order
+>>> touches = [[0], [0, 1], [1]]
+>>> [presents_by([1, 2, -1], touches)[:3], restoring_order([1, 2, -1], touches), obstacle([1, 2, -1], touches)]
+[[0, 2, 0], None, ('stuck', [2])]
+>>> [restoring_order([1, 2, 3], touches), obstacle([1, 2, -1, -2], touches), is_restoring([1, 3], touches, [1, 3])]
+[[3, 2, 1], ('lost', 0), True]
+
+>>> from latepatches.live import Setting
+>>> setting = Setting(5)
+>>> one, two = setting.patch(7), setting.careful(9)
+>>> [one.start(), two.start(), one.stop(), setting.tried(-2), two.stop(), setting.integer, setting.events]
+[7, 9, 5, 5, 5, 5, [1, 2, -1, -2]]
+>>> [setting.undo(), setting.original, two.runs, two.saved, two.described(), setting.present]
+[None, True, True, 1, ['patch 2', 'careful'], 0]
+
+>>> from latepatches.scopes import Hold, Option, value_after_error, values_by_hand, values_within
+>>> option = Option(5)
+>>> [values_within(option, 7, 9), value_after_error(option, 7, 9), values_by_hand(option, [7, 9], [0, 1]), option.value]
+[[7, 9, 7, 5], 5, [7, 9, 5, 7], 7]
+>>> hold = Hold(option, 3)
+>>> [hold.begin(), hold.finish(), option.value]
+[3, 7, 7]
+
+>>> from latepatches.text import format_history, parse_history, table_of
+>>> G = [1, 2, -1, -2]
+>>> [format_history(G), parse_history("+7 -7"), table_of(G)]
+['+1 +2 -1 -2', [7, -7], ['  0   +1   1', '  1   +2   2', '  2   -1   0  2', '  3   -2   1  0']]
 """
 
 import doctest

@@ -4,10 +4,11 @@ import copy
 import inspect
 import unittest
 
-from latepatches import counts, effects, histories, orders, shapes, values
+from latepatches import counts, effects, histories, live, orders, scopes, several, shapes, text, values
 from tests.helpers import FALLING_200, G, H, PackageTest
 
 RUN = [9, 100, 3, 4, -4]
+CHAIN = [[0], [0, 1], [1]]
 
 # Each function with its parameters and with arguments for them.
 FUNCTIONS = [
@@ -54,6 +55,15 @@ FUNCTIONS = [
     (effects.state_after, {"history": RUN}),
     (effects.Effect([2, -1]), {"state": (1, [(1, 0)])}),
     (effects.Effect([]), {"state": (1, [(1, 0)])}),
+    (several.presents_by, {"history": [1, 2, -1], "touches": CHAIN}),
+    (several.restoring_order, {"history": [1, 2, 3], "touches": CHAIN}),
+    (several.is_restoring, {"history": [1, 3], "touches": CHAIN, "order": [1, 3]}),
+    (several.obstacle, {"history": [1, 2, -1], "touches": CHAIN}),
+    (several.obstacle, {"history": G, "touches": CHAIN}),
+    (several.is_obstacle, {"history": [1, 2, -1], "touches": CHAIN, "value": ("stuck", [2])}),
+    (text.format_history, {"history": H}),
+    (text.parse_history, {"text": "+1 +2 -1"}),
+    (text.table_of, {"history": H}),
 ]
 
 NAMES = {
@@ -65,7 +75,23 @@ NAMES = {
              "count_with_jump", "count_survivor"],
     orders: ["is_order", "count_orders", "left_by", "count_leaving", "nth_leaving", "leaving_rank"],
     effects: ["is_piece", "is_state", "state_after"],
+    several: ["presents_by", "restoring_order", "is_restoring", "obstacle", "is_obstacle"],
+    text: ["format_history", "parse_history", "table_of"],
 }
+
+# Each class with its parameters, methods (and their parameters), properties and operators.
+CLASSES = [
+    (effects.Effect, ["piece"], {}, ["present", "saved", "stopped", "ended"],
+     ["__add__", "__eq__", "__contains__", "__len__", "__call__"]),
+    (live.Setting, ["original"],
+     {"patch": ["number"], "careful": ["number"], "strict": ["number"], "undo": [], "tried": ["events"]},
+     ["integer", "present", "events", "original"], ["__len__"]),
+    (live.Patch, None, {"start": [], "stop": [], "described": []}, ["number", "integer", "saved", "runs"], []),
+    (live.CarefulPatch, None, {"start": [], "stop": [], "described": []}, ["number", "integer", "saved", "runs"], []),
+    (live.StrictPatch, None, {"start": [], "stop": [], "described": []}, ["number", "integer", "saved", "runs"], []),
+    (scopes.Option, ["value"], {}, ["value"], []),
+    (scopes.Hold, ["option", "value"], {"begin": [], "finish": []}, [], ["__enter__", "__exit__"]),
+]
 
 KINDS = {
     "is_history": bool, "is_complete": bool, "is_plain": bool, "is_nested": bool, "running_after": list,
@@ -75,7 +101,8 @@ KINDS = {
     "nth_history": list, "history_rank": int, "count_original": int, "nth_original": list, "original_rank": int,
     "count_with_jump": int, "count_survivor": int, "is_order": bool, "count_orders": int, "left_by": int,
     "count_leaving": int, "nth_leaving": list, "leaving_rank": int, "is_piece": bool, "is_state": bool,
-    "state_after": tuple, "an effect": tuple,
+    "state_after": tuple, "an effect": tuple, "presents_by": list, "restoring_order": list, "is_restoring": bool,
+    "obstacle": tuple, "is_obstacle": bool, "format_history": str, "parse_history": list, "table_of": list,
 }
 
 
@@ -127,8 +154,10 @@ class InterfaceTest(PackageTest):
 
     def test_no_argument_is_changed_by_a_call_that_raises(self):
         gone, presents, order, piece, state = [1, 1], [1, 101], [3, 3], [-3, 3], (0, [(2, 1), (1, 2)])
+        touches = [[1, 0], [0, 0]]
         calls = [(histories.without, H, gone), (values.history_of, presents), (orders.left_by, RUN, order),
-                 (orders.leaving_rank, RUN, order), (effects.Effect, piece), (effects.Effect([-2]), state)]
+                 (orders.leaving_rank, RUN, order), (effects.Effect, piece), (effects.Effect([-2]), state),
+                 (several.presents_by, [1], touches), (several.is_restoring, RUN, [[0]] * 100, order)]
         before = copy.deepcopy([told for _, *told in calls])
         for call, *told in calls:
             with self.assertRaises(ValueError):
@@ -146,15 +175,78 @@ class InterfaceTest(PackageTest):
                 one.append("more")
             self.assert_same(answer_of(function, **named), second, name_of(function))
 
-    def test_the_class_effect(self):
-        self.assertTrue(inspect.isclass(effects.Effect))
-        self.assertEqual(effects.Effect.__module__, "latepatches.effects")
-        self.assertEqual(list(inspect.signature(effects.Effect).parameters), ["piece"])
+    def test_kinds_within_lists(self):
+        for function, named in FUNCTIONS:
+            for part in lists_in(answer_of(function, **named)):
+                self.assertLessEqual({type(item) for item in part}, {int, str, tuple}, name_of(function))
+
+    def test_none_where_there_is_none(self):
+        self.assertIsNone(values.history_of([0]))
+        self.assertIsNone(several.restoring_order([1, 2, -1], CHAIN))
+        self.assertIsNone(several.obstacle([1, 2, 3], CHAIN))
+
+
+class ClassesTest(PackageTest):
+    def test_each_class_stands_in_its_file(self):
+        for kind, parameters, *_ in CLASSES:
+            self.assertTrue(inspect.isclass(kind))
+            if parameters is not None:
+                self.assertEqual(list(inspect.signature(kind).parameters), parameters)
+        self.assertEqual({kind.__module__ for kind, *_ in CLASSES},
+                         {"latepatches.effects", "latepatches.live", "latepatches.scopes"})
+        self.assertEqual(inspect.signature(live.Setting).parameters["original"].default, 0)
+
+    def test_each_class_has_its_methods_itself(self):
+        for kind, _, methods, properties, operators in CLASSES:
+            for name, parameters in methods.items():
+                self.assertTrue(inspect.isfunction(vars(kind)[name]), name)
+                self.assertEqual(list(inspect.signature(vars(kind)[name]).parameters), ["self"] + parameters)
+            for name in properties:
+                self.assertIsInstance(vars(kind)[name], property, name)
+            for name in operators:
+                self.assertTrue(inspect.isfunction(vars(kind)[name]), name)
+
+    def test_what_each_object_has_when_it_is_made(self):
+        setting, option = live.Setting(), scopes.Option(5)
+        objects = [effects.Effect([]), setting, setting.patch(1), setting.careful(1), setting.strict(1), option,
+                   scopes.Hold(option, 1)]
+        for thing, (kind, _, methods, properties, _) in zip(objects, CLASSES, strict=True):
+            self.assertIs(type(thing), kind)
+            for name in [*methods, *properties]:
+                self.assertTrue(hasattr(thing, name), name)
+
+    def test_an_effect_by_name(self):
         self.assertEqual(effects.Effect(piece=[2, -1]), effects.Effect([2, -1]))
-        for name in ["present", "saved", "stopped", "ended"]:
-            self.assertIsInstance(vars(effects.Effect)[name], property, name)
-        for name in ["__add__", "__eq__", "__contains__", "__len__", "__call__"]:
-            self.assertTrue(inspect.isfunction(vars(effects.Effect)[name]), name)
+
+    def test_kinds_in_live_settings(self):
+        setting = live.Setting(5)
+        patches = [setting.patch(1), setting.careful(2), setting.strict(3)]
+        for patch in patches:
+            self.assertEqual([type(patch.number), type(patch.integer), patch.saved, type(patch.runs)],
+                             [int, int, None, bool])
+            self.assertEqual([type(patch.start()), type(patch.saved), type(patch.stop())], [int, int, int])
+            self.assertEqual([type(word) for word in patch.described()], [str] * len(patch.described()))
+        kinds = [type(told) for told in [setting.integer, setting.present, setting.events, setting.original]]
+        self.assertEqual(kinds, [int, int, list, bool])
+        self.assertEqual([type(len(setting)), type(setting == setting), setting.undo(), type(setting.tried())],
+                         [int, bool, None, int])
+        self.assertIs(type(live.Setting.MOST), int)
+
+    def test_kinds_in_scopes(self):
+        option = scopes.Option(value=5)
+        hold = scopes.Hold(option=option, value=7)
+        self.assertEqual([type(hold.begin()), type(option.value), type(hold.finish())], [int, int, int])
+        told = [scopes.values_within(option, 1), scopes.value_after_error(option, 1),
+                scopes.values_by_hand(option, [1], [0])]
+        self.assertEqual([type(value) for value in told], [list, int, list])
+
+    def test_the_functions_in_scopes(self):
+        for name, parameters in [("values_within", ["option", "values"]), ("value_after_error", ["option", "values"]),
+                                 ("values_by_hand", ["option", "values", "order"])]:
+            function = vars(scopes)[name]
+            self.assertTrue(inspect.isfunction(function))
+            self.assertEqual(function.__module__, "latepatches.scopes")
+            self.assertEqual(list(inspect.signature(function).parameters), parameters)
 
     def test_kinds_of_the_properties_and_operators_of_an_effect(self):
         effect = effects.Effect([2, -1, 3, -3])
